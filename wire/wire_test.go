@@ -80,6 +80,10 @@ func isMatcher(m api.Matcher) bool {
 	return 0 <= m.Kind && m.Kind <= 3 && isName(m.Name) && isValue(m.Value) && (m.Kind != has || m.Value == "")
 }
 
+func isLabel(one api.Label) bool {
+	return isName(one.Name) && isValue(one.Value)
+}
+
 // whyLabels is the error of labels in any order, with each held against each other one.
 func whyLabels(l []api.Label) api.Errno {
 	why := api.OK
@@ -91,7 +95,7 @@ func whyLabels(l []api.Label) api.Errno {
 		}
 	}
 	for _, one := range l {
-		if !isName(one.Name) || !isValue(one.Value) {
+		if !isLabel(one) {
 			why = api.ErrArg
 		}
 	}
@@ -158,6 +162,16 @@ func matcherOf(text string) (api.Matcher, bool) {
 	return api.Matcher{}, false
 }
 
+// labelOf looks for the first equal sign: what stands ahead of it is the name, and all behind it is the value.
+func labelOf(word string) (api.Label, bool) {
+	place := strings.IndexByte(word, '=')
+	if place < 0 {
+		return api.Label{}, false
+	}
+	one := api.Label{Name: word[:place], Value: word[place+1:]}
+	return one, isLabel(one)
+}
+
 // timeOf reads digits in numbers without an end.
 func timeOf(word string) (int, bool) {
 	n := new(big.Int)
@@ -206,11 +220,11 @@ func read(text string) (api.Msg, api.Errno) {
 func readAlert(kind int, words []string) (api.Msg, api.Errno) {
 	var l []api.Label
 	for _, word := range words {
-		place := strings.IndexByte(word, '=')
-		if place < 0 {
+		one, ok := labelOf(word)
+		if !ok {
 			return api.Msg{}, api.ErrChar
 		}
-		l = append(l, labels(word[:place], word[place+1:])...)
+		l = append(l, one)
 	}
 	if why := whyLabels(l); why != api.OK {
 		return api.Msg{}, why
@@ -768,7 +782,7 @@ func TestParseBySize(t *testing.T) {
 		why     api.Errno
 	}{
 		{"", "x", api.ErrWord}, {"", " ", api.ErrWord}, {"", "\xff", api.ErrWord}, {"fire", "d", api.ErrWord}, {"Fire ", "a", api.ErrWord}, {"ä", "ä"[:1], api.ErrWord},
-		{"fire ", " ", api.ErrChar}, {"fire a=", "x", api.ErrArg}, {"done a=x ", "b", api.ErrChar}, {"fire a=x a=x a=", "x", api.ErrArg}, {"done =", "=", api.ErrArg},
+		{"fire ", " ", api.ErrChar}, {"fire a=", "x", api.ErrChar}, {"done a=x ", "b", api.ErrChar}, {"fire a=x a=x a=", "x", api.ErrChar}, {"done =", "=", api.ErrChar}, {"fire a= b= c= d= e=", "5", api.ErrChar},
 		{"hush ", "5", api.ErrLack}, {"hush 5 9", "9", api.ErrLack}, {"hush 5 9 ", "a", api.ErrChar}, {"hush 5 9 a=x", " ", api.ErrChar}, {"hush 9 5 a=", "x", api.ErrChar}, {"hush 9 5 a? a? a? a? ", "x", api.ErrChar}, {"hush 9 5 a? a? a? a? a", "?", api.ErrChar},
 	} {
 		wantNoParse(t, filled(c.text, c.b, 199), c.why)
@@ -841,33 +855,67 @@ func orders(row []api.Label, call func([]api.Label)) {
 	}
 }
 
-// P12.2: alerts' errors, written out: words that are no label's first, then label.Sort's, by how many there are, by each name and value, and by two of one name.
+// P12.2: alerts' errors, written out: words that are no label's first (without an equal sign, of no name, of no value), then label.Sort's of words that all are: by how many there are, and by two of one name.
 func TestParseNoAlerts(t *testing.T) {
 	for _, c := range []struct {
-		others string
 		why    api.Errno
+		others []string
 	}{
-		{"", api.ErrArg},
-		{" ", api.ErrChar}, {"  ", api.ErrChar}, {" a", api.ErrChar}, {" a=x ", api.ErrChar}, {"  a=x", api.ErrChar}, {" a=x  b=y", api.ErrChar}, {" a=x b=y ", api.ErrChar},
-		{" a=x b", api.ErrChar}, {" b a=x", api.ErrChar}, {" a=x b c=y", api.ErrChar}, {" a!x", api.ErrChar}, {" a^", api.ErrChar}, {" a?", api.ErrChar}, {" a=x b!y", api.ErrChar},
-		{" ä", api.ErrChar}, {" \xff", api.ErrChar}, {" a＝x", api.ErrChar}, {" a:x", api.ErrChar}, {" \t", api.ErrChar}, {" \n", api.ErrChar},
-		{" =", api.ErrArg}, {" =x", api.ErrArg}, {" a=x =", api.ErrArg}, {" = a=x", api.ErrArg}, {" a=x =y b=z", api.ErrArg},
-		{" a==", api.ErrArg}, {" a==x", api.ErrArg}, {" a=x=", api.ErrArg}, {" a=x=y", api.ErrArg}, {" ==", api.ErrArg}, {" a=x b=y=z", api.ErrArg},
-		{" A=x", api.ErrArg}, {" a=X", api.ErrArg}, {" a1=x", api.ErrArg}, {" a-=x", api.ErrArg}, {" abcdefghi=x", api.ErrArg}, {" a=abcdefghi", api.ErrArg}, {" ä=x", api.ErrArg}, {" a=ä", api.ErrArg}, {" a=\xff", api.ErrArg}, {" a=x?", api.ErrArg}, {" a!=x", api.ErrArg}, {" a=x,b=y", api.ErrArg},
-		{"\ta=x", api.ErrWord}, {" a=x\tb=y", api.ErrArg}, {" a=x\nb=y", api.ErrArg}, {" a=x\n", api.ErrArg}, {" a=x\t", api.ErrArg}, {" \ta=x", api.ErrArg}, {" a=x\u00a0", api.ErrArg},
-		{" a=x b=x c=x d=x", api.ErrArg}, {" d= c= b= a=", api.ErrArg}, {" a=x b=x c=x d=x e=x f=x g=x", api.ErrArg},
-		{" a=x a=x", api.ErrTwice}, {" a=x a=y", api.ErrTwice}, {" a= b= a=", api.ErrTwice}, {" b=x a=y b=x", api.ErrTwice}, {" a=x b=x b=y", api.ErrTwice}, {" a=x a=x a=x", api.ErrTwice},
-		{" a=x a=x =", api.ErrArg}, {" a=x a=x B=x", api.ErrArg}, {" a=x a=X", api.ErrArg}, {" a=x=y a=x", api.ErrArg}, {" = =", api.ErrArg}, {" A=x A=x", api.ErrArg}, {" a=x a=x a=x a=x", api.ErrArg}, {" a=x a=x b=x c=x", api.ErrArg},
-		{" a=x a=x b", api.ErrChar}, {" a a=x a=x", api.ErrChar}, {" A=x b", api.ErrChar}, {" b =x", api.ErrChar}, {" a=x=y b", api.ErrChar}, {" a=x a=x ", api.ErrChar}, {" a=x b=x c=x d", api.ErrChar}, {" a=x b=x c=x d=x e", api.ErrChar}, {" a=x b=x c=x d=x ", api.ErrChar}, {" a b c d", api.ErrChar},
+		{api.ErrChar, []string{
+			" ", "  ", " a", " a=x ", "  a=x", " a=x  b=y", " a=x b=y ", " a=x b", " b a=x", " a=x b c=y", " a!x", " a^", " a?", " a=x b!y",
+			" ä", " \xff", " a＝x", " a:x", " \t", " \n", " a b c d", " a=x a=x b", " a a=x a=x", " a=x a=x ", " a=x b=x c=x d", " a=x b=x c=x d=x e", " a=x b=x c=x d=x ",
+		}},
+		{api.ErrChar, []string{
+			" =", " =x", " a=x =", " = a=x", " a=x =y b=z", " = =", " b =x", " a=x a=x =", " a=x a=y =", " = a= a=", " a= b= c= =", " a= b= c= d= =",
+			" A=x", " a1=x", " a-=x", " abcdefghi=x", " ä=x", " a!=x", " \ta=x", " A=x b", " A=x A=x", " a=x a=x B=x", " a=x A=x a=x", " a= b= c= D=", " a= B= c= d=", " a= b= c= d= E=",
+		}},
+		{api.ErrChar, []string{
+			" a==", " a==x", " a=x=", " a=x=y", " ==", " a=b=c", " a=x b=y=z", " a=x=y b", " a=x=y a=x", " a=x a=x=", " a= a= b= c==", " a= b= c= d=x=y",
+			" a=X", " a=abcdefghi", " a=ä", " a=\xff", " a=x?", " a=x,b=y", " a=x\tb=y", " a=x\nb=y", " a=x\n", " a=x\t", " a=x\u00a0", " a=x a=X", " a=X a=X", " a= b= c= d=D", " a=A b= c= d=",
+		}},
+		{api.ErrArg, []string{
+			"", " a= b= c= d=", " d= c= b= a=", " a=x b=x c=x d=x", " a=x b=x c=x d=x e=x f=x g=x", " a=x a=x a=x a=x", " a=x a=x b=x c=x", " a= a= b= c=", " a= b= c= a=",
+		}},
+		{api.ErrTwice, []string{
+			" a=x a=x", " a=x a=y", " a= a=x", " a= b= a=", " b=x a=y b=x", " a=x b=x b=y", " a=x a=x a=x", " abcdefgh=12345678 abcdefgh=--------",
+		}},
+		{api.ErrWord, []string{"\ta=x", "=", "=x", "a=x"}},
 	} {
 		for first := range kindsOfAlerts() {
-			wantNoParse(t, first+c.others, c.why)
-			wantRead(t, first+c.others)
+			for _, others := range c.others {
+				wantNoParse(t, first+others, c.why)
+				wantRead(t, first+others)
+			}
 		}
 	}
 }
 
-// wordsOfAlerts are labels', of one name and of others, and such as are no label's, or none's that may be.
+// P12.2: a word that is no label's, by its name or by its value, is ErrChar at each place of any labels', be they right, too many, or two of one name.
+func TestParseEachWordThatIsNoLabel(t *testing.T) {
+	var words []string
+	for _, name := range badNames() {
+		words = append(words, name+"=", name+"=x")
+	}
+	for _, value := range badValues() {
+		words = append(words, "a="+value, "abcdefgh="+value)
+	}
+	rows := [][]string{nil, {"a="}, {"a=x", "b=y"}, {"a=", "a=x"}, {"a=x", "b=y", "c=z"}, {"b=", "a=", "b="}, {"a=", "b=", "c=", "d="}, {"a=", "a=", "b=", "c="}, {"a=", "b=", "c=", "d=", "e="}}
+	for first := range kindsOfAlerts() {
+		for _, row := range rows {
+			for place := range len(row) + 1 {
+				for _, word := range words {
+					text := strings.Join(slices.Concat([]string{first}, row[:place], []string{word}, row[place:]), " ")
+					if len(text) <= 200 {
+						wantNoParse(t, text, api.ErrChar)
+					}
+					wantRead(t, text)
+				}
+			}
+		}
+	}
+}
+
+// wordsOfAlerts are labels', of one name and of others, and such as are no label's: without an equal sign, of no name, and of no value.
 func wordsOfAlerts() []string {
 	return []string{"a=", "a=x", "b=y", "ab=-1", "z=0", "", "a", "=", "=x", "a==", "b=x=y", "A=x", "b=X", "a!x", "abcdefghi=x"}
 }
